@@ -230,15 +230,15 @@ func TestMix(t *testing.T) {
 	}
 }
 
-// faults answers for each bit of a Seal of n bytes what its turning does to
+// faults answers for each bit of the longest Seal what its turning does to
 // the sum that is told, laid over that of the text. A sum is linear: several
 // bits do together what each does, laid over each other, and a change is
 // missed just where that is 0.
-func faults(n int) []uint32 {
-	b := make([]byte, n)
+var faults = sync.OnceValue(func() []uint32 {
+	b := make([]byte, longest)
 	whole := Of(b)
 	var l []uint32
-	for i := range 8 * n {
+	for i := range 8 * longest {
 		turn(b, i)
 		l = append(l, Of(b)^whole)
 		turn(b, i)
@@ -247,11 +247,11 @@ func faults(n int) []uint32 {
 		l = append(l, 1<<i)
 	}
 	return l
-}
+})
 
 func TestThreeTurnedBitsAreFound(t *testing.T) {
 	seen := map[uint32]int{}
-	for i, f := range faults(longest) {
+	for i, f := range faults() {
 		if j, ok := seen[f]; ok {
 			t.Fatal("bits", j, "and", i, "turned are not found")
 		}
@@ -264,7 +264,7 @@ func TestThreeTurnedBitsAreFound(t *testing.T) {
 }
 
 func TestBitsInARowAreFound(t *testing.T) {
-	l := faults(longest)
+	l := faults()
 	for from := range len(l) - 31 {
 		if dependent(l[from : from+32]) {
 			t.Fatal("some bits within 32 from", from, "on are not found")
@@ -345,15 +345,32 @@ func TestTableIsMadeWhenFirstNeeded(t *testing.T) {
 	if Parts([]byte("12345"), []byte("6789")) != 0xe3069283 {
 		t.Error("the first sum")
 	}
-	want := table
-	if want == [256]uint32{} {
-		t.Error("no table was made")
+	if table != *crc32.MakeTable(crc32.Castagnoli) {
+		t.Error("the table's words")
 	}
+	want := table
 	table[0x12] ^= 1
-	if Of([]byte("123456789")); table == want {
+	if Parts([]byte("123456789")); table == want {
 		t.Error("the table was made again")
 	}
-	table[0x12] ^= 1
+	table = want
+}
+
+func TestNoAnswerHangsOnTheTable(t *testing.T) {
+	b := text(300)
+	sealed := binary.LittleEndian.AppendUint32(bytes.Clone(b), slowSum(b))
+	Parts(b)
+	right := table
+	defer func() { table = right }()
+	for i := range table {
+		table[i] ^= uint32(i) | 1
+	}
+	if Of(b) != slowSum(b) || Parts(b[:100], b[100:]) != slowSum(b) || !bytes.Equal(Seal(b), sealed) {
+		t.Error("a sum was taken from the table")
+	}
+	if back, e := Open(sealed); !bytes.Equal(back, b) || e != api.OK {
+		t.Error("Open took the sum from the table", e)
+	}
 }
 
 func FuzzNoCallPanics(f *testing.F) {
